@@ -1,0 +1,54 @@
+"""What several modules share: names, integers as texts, and lists turned into tuples."""
+
+LETTERS = "abcdefghijklmnopqrstuvwxyz"
+DIGITS = "0123456789"
+NAME_LENGTH = 8
+MOST_DIGITS = 30
+RESERVED = (
+    "and", "checkpoint", "else", "end", "if", "input", "mod", "not", "or",
+    "process", "receive", "send", "set", "take", "while",
+)
+
+
+def is_name(thing):
+    """Whether the thing is a string that processes and variables may have as their name."""
+    if not isinstance(thing, str) or thing in RESERVED:
+        return False
+    if thing == "" or len(thing) > NAME_LENGTH:
+        return False
+    return all([letter in LETTERS for letter in thing])
+
+
+def is_number(text):
+    """Whether the text is an integer from 0 on as expressions have it: no sign, no leading zero."""
+    if text == "" or len(text) > MOST_DIGITS:
+        return False
+    if text[0] == "0" and text != "0":
+        return False
+    return all([digit in DIGITS for digit in text])
+
+
+def frozen(thing):
+    """The thing with its lists turned into tuples, also inside."""
+    # Callers may pass anything, nested as deep as they like: stacks, since recursion would end.
+    sources = [[thing]]
+    places = [0]
+    results = [[]]
+    while len(sources) > 1 or places[0] == 0:
+        source = sources[-1]
+        place = places[-1]
+        if place == len(source):
+            sources.pop()
+            places.pop()
+            finished = tuple(results.pop())
+            results[-1].append(finished)
+            continue
+        places[-1] = place + 1
+        item = source[place]
+        if isinstance(item, (list, tuple)):
+            sources.append(item)
+            places.append(0)
+            results.append([])
+        else:
+            results[-1].append(item)
+    return results[0][0]

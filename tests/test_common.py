@@ -1,0 +1,49 @@
+"""[8], [9], [5]: names, integers as texts, and lists turned into tuples."""
+
+import unittest
+
+from rerunrein.common import frozen, is_name, is_number
+from tests.oracle import RESERVED
+
+
+class CommonTest(unittest.TestCase):
+
+    def test_names(self):
+        for thing in ("a", "z", "abcdefgh", "zzzzzzzz", "inputs", "an", "ands", "fi", "rec", "taken"):
+            with self.subTest(thing):
+                self.assertIs(is_name(thing), True)
+        for thing in ("", " ", "a ", " a", "a b", "abcdefghi", "A", "aB", "a1", "1", "a_b", "a-b", "\u00e9", "a\n", "\n"):
+            with self.subTest(thing):
+                self.assertIs(is_name(thing), False)
+        for word in RESERVED:
+            with self.subTest(word):
+                self.assertIs(is_name(word), False)
+
+    def test_names_are_strings(self):
+        for thing in (None, 0, 5, True, (), [], ("a",), ["a"], [["a"], "b"], ("and",)):
+            with self.subTest(thing):
+                self.assertIs(is_name(thing), False)
+
+    def test_numbers(self):
+        for text in ("0", "1", "9", "10", "100", "9" * 30, "1" + "0" * 29):
+            with self.subTest(text):
+                self.assertIs(is_number(text), True)
+        for text in (
+            "", "00", "01", "007", "-1", "-0", "+1", "1 ", " 1", "1.0", "1_0", "x", "1x", "1" * 31, "0" * 30, "\u0663",
+            "1\n", "\u00b2",
+        ):
+            with self.subTest(text):
+                self.assertIs(is_number(text), False)
+
+    def test_frozen(self):
+        inner = [1, [2, (3, [])]]
+        self.assertEqual(frozen(inner), (1, (2, (3, ()))))
+        self.assertEqual(inner, [1, [2, (3, [])]])
+        for thing in (None, 0, True, "", "ab", (), (1, ("x", None, False))):
+            with self.subTest(thing):
+                self.assertEqual(frozen(thing), thing)
+                self.assertIs(type(frozen(thing)), type(thing))
+
+
+if __name__ == "__main__":
+    unittest.main()

@@ -1,0 +1,76 @@
+"""The interface: names, arguments, and the files that define them."""
+
+import ast
+import importlib
+import inspect
+import pathlib
+import unittest
+
+FOLDER = pathlib.Path(__file__).resolve().parent.parent / "rerunrein"
+
+# What has been built so far: for each file its functions, and its classes with their methods.
+FUNCTIONS = {
+    "expressions": {
+        "parse_expression": "(text)", "parse_condition": "(text)", "written": "(node)",
+        "evaluate": "(node, values)", "holds": "(node, values)",
+    },
+    "programs": {"parse_program": "(lines)"},
+    "errors": {},
+}
+CLASSES = {
+    "expressions": {},
+    "programs": {"Program": {"names": "(self)", "body": "(self, name)", "lines": "(self)"}},
+    "errors": {
+        "RerunError": {},
+        "BadText": {"__init__": "(self, position)"},
+        "Fault": {"__init__": "(self, reason)"},
+        "BadProgram": {"__init__": "(self, line, reason)"},
+        "UnknownProcess": {"__init__": "(self, name)"},
+        "BadInputs": {"__init__": "(self, index)"},
+        "NotReady": {"__init__": "(self, name)"},
+        "BadSender": {"__init__": "(self, sender)"},
+        "BadRecord": {"__init__": "(self, reason, name, number)"},
+        "BadEvent": {"__init__": "(self, event)"},
+        "BadRecordLine": {"__init__": "(self, line)"},
+        "BadLine": {"__init__": "(self, line)"},
+        "BadWait": {"__init__": "(self, index)"},
+        "NotLive": {"__init__": "(self, ring)"},
+        "TooMany": {"__init__": "(self, most)"},
+        "BadCut": {"__init__": "(self, cut)"},
+        "BadConditions": {"__init__": "(self, line, reason)"},
+        "Missing": {"__init__": "(self, what)"},
+    },
+}
+
+
+def definitions(body):
+    """The names that def and class statements of this body define, with the statements."""
+    return {part.name: part for part in body if isinstance(part, (ast.FunctionDef, ast.ClassDef))}
+
+
+class InterfaceTest(unittest.TestCase):
+
+    def test_functions(self):
+        for name, functions in FUNCTIONS.items():
+            module = importlib.import_module(f"rerunrein.{name}")
+            defined = definitions(ast.parse((FOLDER / f"{name}.py").read_text()).body)
+            for function, signature in functions.items():
+                with self.subTest(function):
+                    self.assertIsInstance(defined.get(function), ast.FunctionDef)
+                    self.assertEqual(str(inspect.signature(getattr(module, function))), signature)
+
+    def test_classes_and_their_methods(self):
+        for name, classes in CLASSES.items():
+            module = importlib.import_module(f"rerunrein.{name}")
+            defined = definitions(ast.parse((FOLDER / f"{name}.py").read_text()).body)
+            for kind, methods in classes.items():
+                self.assertIsInstance(defined.get(kind), ast.ClassDef)
+                inside = definitions(defined[kind].body)
+                for method, signature in methods.items():
+                    with self.subTest(kind, method=method):
+                        self.assertIn(method, inside)
+                        self.assertEqual(str(inspect.signature(getattr(getattr(module, kind), method))), signature)
+
+
+if __name__ == "__main__":
+    unittest.main()
