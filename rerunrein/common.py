@@ -1,13 +1,16 @@
-"""What several modules share: names, integers as texts, and lists turned into tuples."""
+"""What several modules share: names, integers, recorded events, and lists turned into tuples."""
 
 LETTERS = "abcdefghijklmnopqrstuvwxyz"
 DIGITS = "0123456789"
 NAME_LENGTH = 8
 MOST_DIGITS = 30
+TOO_LARGE = 10 ** 30
+MOST_PROCESSES = 40
 RESERVED = (
     "and", "checkpoint", "else", "end", "if", "input", "mod", "not", "or",
     "process", "receive", "send", "set", "take", "while",
 )
+RECEIVING = ("receive", "take")
 
 
 def is_name(thing):
@@ -26,6 +29,34 @@ def is_number(text):
     if text[0] == "0" and text != "0":
         return False
     return all([digit in DIGITS for digit in text])
+
+
+def read_integer(text):
+    """The integer that the text is, a "-" ahead if it is below 0, or None if it is none."""
+    if is_number(text):
+        return int(text)
+    if text[:1] == "-" and text != "-0" and is_number(text[1:]):
+        return int(text)
+    return None
+
+
+def is_integer(thing):
+    """Whether the thing is an integer; True and False are none."""
+    return isinstance(thing, int) and not isinstance(thing, bool)
+
+
+def is_value(thing):
+    """Whether the thing is an integer that a variable or a message may have."""
+    return is_integer(thing) and abs(thing) < TOO_LARGE
+
+
+def assigned(event):
+    """The variable and the integer that an event in recorded form assigns to it, or None."""
+    if event[0] == "set" or event[0] == "input":
+        return (event[1], event[2])
+    if event[0] in RECEIVING:
+        return (event[2], event[3])
+    return None
 
 
 def frozen(thing):

@@ -3,7 +3,7 @@
 # A text may be nested deep, and a long sum is a deep tree. So everything here works with stacks
 # of its own instead of recursion.
 
-from rerunrein.common import DIGITS, LETTERS, is_name, is_number
+from rerunrein.common import DIGITS, LETTERS, TOO_LARGE, is_name, is_number
 from rerunrein.errors import BadText, Fault
 
 WORDS = ("and", "mod", "not", "or")
@@ -20,7 +20,6 @@ BINDING = {
     "number": 8, "variable": 8,
 }
 LOOSEST_EXPRESSION = 5
-TOO_LARGE = 10 ** 30
 
 
 def parse_expression(text):

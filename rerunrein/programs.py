@@ -1,11 +1,10 @@
 """Programs: reading their lines, and the statements of their processes."""
 
-from rerunrein.common import is_name
+from rerunrein.common import MOST_PROCESSES, is_name
 from rerunrein.errors import BadProgram, BadText, UnknownProcess
 from rerunrein.expressions import parse_condition, parse_expression, written
 
 MOST_LINES = 400
-MOST_PROCESSES = 40
 MOST_DEEP = 20
 
 

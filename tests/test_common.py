@@ -1,8 +1,8 @@
-"""[8], [9], [5]: names, integers as texts, and lists turned into tuples."""
+"""[4], [5], [8], [9], [22]: names, integers, recorded events, and lists turned into tuples."""
 
 import unittest
 
-from rerunrein.common import frozen, is_name, is_number
+from rerunrein.common import assigned, frozen, is_integer, is_name, is_number, is_value, read_integer
 from tests.oracle import RESERVED
 
 
@@ -34,6 +34,35 @@ class CommonTest(unittest.TestCase):
         ):
             with self.subTest(text):
                 self.assertIs(is_number(text), False)
+
+    def test_integers_as_texts(self):
+        for text in ("0", "1", "10", "9" * 30, "-1", "-10", "-" + "9" * 30):
+            with self.subTest(text):
+                self.assertEqual(read_integer(text), int(text))
+        for text in (
+            "", "-", "-0", "--1", "- 1", "-01", "00", "+1", "1-", "-1 ", " -1", "x", "-x", "1" * 31, "-" + "1" * 31,
+        ):
+            with self.subTest(text):
+                self.assertIsNone(read_integer(text))
+
+    def test_integers(self):
+        for thing in (0, 1, -1, 10 ** 30 - 1, 1 - 10 ** 30):
+            self.assertIs(is_integer(thing), True)
+            self.assertIs(is_value(thing), True)
+        for thing in (10 ** 30, -10 ** 30):
+            self.assertIs(is_integer(thing), True)
+            self.assertIs(is_value(thing), False)
+        for thing in (True, False, None, "1", (), (1,), [1]):
+            self.assertIs(is_integer(thing), False)
+            self.assertIs(is_value(thing), False)
+
+    def test_assigned(self):
+        self.assertEqual(assigned(("set", "x", 5)), ("x", 5))
+        self.assertEqual(assigned(("input", "x", 5)), ("x", 5))
+        self.assertEqual(assigned(("receive", "b", "x", 5)), ("x", 5))
+        self.assertEqual(assigned(("take", "b", "x", 5)), ("x", 5))
+        self.assertIsNone(assigned(("send", "b", 5)))
+        self.assertIsNone(assigned(("checkpoint",)))
 
     def test_frozen(self):
         inner = [1, [2, (3, [])]]

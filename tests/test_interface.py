@@ -15,11 +15,38 @@ FUNCTIONS = {
         "evaluate": "(node, values)", "holds": "(node, values)",
     },
     "programs": {"parse_program": "(lines)"},
+    "machine": {"run": "(program, inputs, choices)"},
+    "records": {
+        "record_lines": "(record)", "read_record": "(lines)", "first_departure": "(program, inputs, record)",
+    },
+    "orders": {
+        "under_way": "(record, cut)", "count_cuts": "(order, *, most=20000)", "count_replays": "(order, *, most=20000)",
+        "any_replay": "(order)",
+    },
     "errors": {},
 }
 CLASSES = {
     "expressions": {},
     "programs": {"Program": {"names": "(self)", "body": "(self, name)", "lines": "(self)"}},
+    "machine": {
+        "Machine": {
+            "__init__": "(self, program, inputs)", "status": "(self, name)", "ready": "(self)", "senders": "(self, name)",
+            "step": "(self, name, *, sender=None)", "variables": "(self, name)", "channel": "(self, sender, receiver)",
+            "record": "(self)", "copy": "(self)",
+        },
+    },
+    "records": {
+        "Record": {
+            "__init__": "(self, rows)", "names": "(self)", "events": "(self, name)", "length": "(self, name)",
+            "variables": "(self, name)", "state": "(self, name, number)", "partner": "(self, event)",
+        },
+    },
+    "orders": {
+        "Order": {
+            "__init__": "(self, record, waits=())", "ahead": "(self, one, other)", "is_cut": "(self, cut)",
+            "least_cut": "(self, events)", "waits": "(self)",
+        },
+    },
     "errors": {
         "RerunError": {},
         "BadText": {"__init__": "(self, position)"},
