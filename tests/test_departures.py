@@ -114,6 +114,18 @@ class DeparturesTest(unittest.TestCase):
             lines = "\n".join(LINES).replace("set z z * 2", line).split("\n")
             self.assertEqual(self.departure(ROWS, lines), ("a", 5))
 
+    def test_the_value_ahead_of_a_fault(self):
+        # The process has no value there: the one from before the fault must not stand in for it.
+        for fault in ("1 // 0", "9 * " + "9" * 30):
+            for form, event in (("set x", ("set", "x", 5)), ("send b", ("send", "b", 5))):
+                lines = ["process a", form + " 5", form + " " + fault, "process b"]
+                self.assertIsNone(self.departure([("a", [event]), ("b", [])], lines, ()))
+                self.assertEqual(self.departure([("a", [event, event]), ("b", [])], lines, ()), ("a", 2))
+        lines = ["process a", "input x", "input x"]
+        events = [("input", "x", 5), ("input", "x", 5)]
+        self.assertEqual(self.departure([("a", events)], lines, [("a", [5])]), ("a", 2))
+        self.assertIsNone(self.departure([("a", events)], lines, [("a", [5, 5])]))
+
     def test_the_order_of_the_record(self):
         rows = with_event("a", 6, ("set", "z", 1))
         rows[1] = ("b", [*ROWS[1][1], ("checkpoint",)])
