@@ -83,3 +83,15 @@ def frozen(thing):
         else:
             results[-1].append(item)
     return results[0][0]
+
+
+def is_plain(thing):
+    """Whether there is no list and no bool in the thing, also inside: nothing that stands for another thing."""
+    parts = [thing]
+    while parts:
+        part = parts.pop()
+        if isinstance(part, (list, bool)):
+            return False
+        if isinstance(part, tuple):
+            parts.extend(part)
+    return True

@@ -110,6 +110,32 @@ def joined(one, other):
     return tuple([max(left, right) for left, right in zip(one, other)])
 
 
+def least_cut_within(order, cut, spans):
+    """The least cut from a cut on in which each process is in one of its spans, or None.
+
+    The spans of a process are pairs (first, last) of numbers of states, in ascending order.
+    """
+    while True:
+        higher = cut
+        for name, at in order.places.items():
+            number = number_within(spans[at], cut[at])
+            if number is None:
+                return None
+            if number > cut[at]:
+                higher = joined(higher, order.clocks[(name, number)])
+        if higher == cut:
+            return cut
+        cut = higher
+
+
+def number_within(spans, least):
+    """The least number from this one on that is in one of the spans, or None."""
+    for first, last in spans:
+        if last >= least:
+            return max(first, least)
+    return None
+
+
 def under_way(record, cut):
     """The tuples (sender, receiver, integers) of the messages that are under way in a cut."""
     taken = frozen(cut)

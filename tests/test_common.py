@@ -2,7 +2,7 @@
 
 import unittest
 
-from rerunrein.common import assigned, frozen, is_integer, is_name, is_number, is_value, read_integer
+from rerunrein.common import assigned, frozen, is_integer, is_name, is_number, is_plain, is_value, read_integer
 from tests.oracle import RESERVED
 
 
@@ -72,6 +72,18 @@ class CommonTest(unittest.TestCase):
             with self.subTest(thing):
                 self.assertEqual(frozen(thing), thing)
                 self.assertIs(type(frozen(thing)), type(thing))
+
+    def test_plain(self):
+        for thing in (None, 0, 1, -5, "", "True", (), (1, ("x", None)), ((), ((1,), "a"))):
+            with self.subTest(thing):
+                self.assertIs(is_plain(thing), True)
+        for thing in (True, False, [], [1], (1, True), (1, []), ((("x", 1), (2, (False,))),), (0, (1, ([],)))):
+            with self.subTest(thing):
+                self.assertIs(is_plain(thing), False)
+        deep = True
+        for level in range(100000):
+            deep = (1, deep)
+        self.assertIs(is_plain(deep), False)
 
 
 if __name__ == "__main__":

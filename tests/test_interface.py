@@ -23,6 +23,14 @@ FUNCTIONS = {
         "under_way": "(record, cut)", "count_cuts": "(order, *, most=20000)", "count_replays": "(order, *, most=20000)",
         "any_replay": "(order)",
     },
+    "logs": {
+        "needed_takes": "(record)", "other_sender": "(record, event)",
+        "rerun": "(program, inputs, record, log, choices)",
+    },
+    "checkpoints": {
+        "recovery_line": "(record, cut, failed)", "useless_checkpoints": "(record)", "zigzag": "(record, event)",
+        "is_zigzag": "(record, event, thing)",
+    },
     "errors": {},
 }
 CLASSES = {
@@ -45,6 +53,12 @@ CLASSES = {
         "Order": {
             "__init__": "(self, record, waits=())", "ahead": "(self, one, other)", "is_cut": "(self, cut)",
             "least_cut": "(self, events)", "waits": "(self)",
+        },
+    },
+    "conditions": {
+        "Conditions": {
+            "__init__": "(self, record, lines)", "record": "(self)", "lines": "(self)", "sections": "(self, name)",
+            "gaps": "(self, name)", "broken": "(self, cut)",
         },
     },
     "errors": {
