@@ -4,6 +4,7 @@ from rerunrein.common import frozen, is_plain
 from rerunrein.errors import BadCut, BadEvent, UnknownProcess
 from rerunrein.orders import Order, least_cut_within
 from rerunrein.records import event_of
+from rerunrein.ways import way_to, ways_from
 
 
 def recovery_line(record, cut, failed):
@@ -69,17 +70,13 @@ def zigzag(record, event):
     start = checked_checkpoint(record, event)
     sends = received_sends(record)
     intervals = intervals_by_event(record)
-    before = {send: None for send in sends if is_later(send, start)}
-    queue = list(before)
-    while queue:
-        send = queue.pop(0)
-        receipt = record.partners[send]
-        if is_later(start, receipt):
-            return path_to(before, send)
-        for other in sends:
-            if other not in before and may_follow(intervals, receipt, other):
-                before[other] = send
-                queue.append(other)
+    following = {}
+    for send in sends:
+        following[send] = [other for other in sends if may_follow(intervals, record.partners[send], other)]
+    before = ways_from([send for send in sends if is_later(send, start)], following)
+    for send in before:
+        if is_later(start, record.partners[send]):
+            return way_to(before, send)
     return None
 
 
@@ -143,13 +140,3 @@ def is_later(one, other):
 def may_follow(intervals, receipt, send):
     """Whether a zigzag may go on with a send behind a message that is received here."""
     return send[0] == receipt[0] and intervals[send] >= intervals[receipt]
-
-
-def path_to(before, last):
-    """The tuple of the entries up to the last one, of a dict of the entry before each."""
-    path = []
-    entry = last
-    while entry is not None:
-        path.append(entry)
-        entry = before[entry]
-    return tuple(path[::-1])

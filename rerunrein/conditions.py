@@ -50,10 +50,10 @@ class Conditions:
         taken = frozen(cut)
         if not self.order.is_cut(taken):
             raise BadCut(cut)
-        numbers = dict(zip(self.recorded.names(), taken))
         for line, rule in enumerate(self.rules):
-            if breaks_order(rule, numbers) or self.breaks_bound(rule, numbers):
+            if self.breaks_line(rule, taken):
                 return (rule[0], line)
+        numbers = dict(zip(self.recorded.names(), taken))
         pair = self.in_lock_together(numbers)
         if pair is not None:
             return ("lock",) + pair
@@ -61,17 +61,25 @@ class Conditions:
             return ("either",)
         return None
 
-    def breaks_bound(self, rule, numbers):
-        """Whether this is a bound line with too many messages under way at these numbers of events."""
-        if rule[0] != "bound":
-            return False
-        sender, receiver, most = rule[1:]
-        under_way = 0
+    def breaks_line(self, rule, cut):
+        """Whether a cut breaks what an order or bound line says; the other lines break together."""
+        places = self.order.places
+        if rule[0] == "order":
+            name, number, other, later = rule[1:]
+            return cut[places[other]] >= later and cut[places[name]] < number
+        if rule[0] == "bound":
+            sender, receiver, most = rule[1:]
+            return self.count_under_way(sender, receiver, cut[places[sender]], cut[places[receiver]]) > most
+        return False
+
+    def count_under_way(self, sender, receiver, sent, received):
+        """The number of messages under way behind so many events of the sender and of the receiver."""
+        count = 0
         for send in self.sends_between(sender, receiver):
             receipt = self.recorded.partner(send)
-            if send[1] <= numbers[sender] and (receipt is None or receipt[1] > numbers[receiver]):
-                under_way += 1
-        return under_way > most
+            if send[1] <= sent and (receipt is None or receipt[1] > received):
+                count += 1
+        return count
 
     def sends_between(self, sender, receiver):
         """The send events of one process to another."""
@@ -89,14 +97,6 @@ class Conditions:
                 if writing or also_writing:
                     return (name, other)
         return None
-
-
-def breaks_order(rule, numbers):
-    """Whether this is an order line whose second event is executed without the first one."""
-    if rule[0] != "order":
-        return False
-    name, number, other, later = rule[1:]
-    return numbers[other] >= later and numbers[name] < number
 
 
 def span_at(spans, number):

@@ -99,13 +99,21 @@ def options_of(machine):
     return options
 
 
-def run(program, inputs, choices):
-    """The machine after the steps that the choices choose."""
-    machine = Machine(program, inputs)
+def make_steps(machine, choices):
+    """Makes the steps that the choices choose, and returns how many there were."""
+    count = 0
     for choice in choices:
         options = options_of(machine)
         if not options:
             break
         name, sender = options[choice % len(options)]
         machine.step(name, sender=sender)
+        count += 1
+    return count
+
+
+def run(program, inputs, choices):
+    """The machine after the steps that the choices choose."""
+    machine = Machine(program, inputs)
+    make_steps(machine, choices)
     return machine

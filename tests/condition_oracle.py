@@ -115,6 +115,41 @@ def toggling_rows(random, processes, count):
     return [(name, tuple(events)) for name, events in rows.items()]
 
 
+def busy_rows(random, processes, count):
+    """The rows of a run in which x changes with almost every event, and some messages keep an order."""
+    names = random.sample(["a", "b", "c", "d", "e", "zz", "x", "pq"], processes)
+    rows = {name: [] for name in names}
+    channels = {}
+    for repetition in range(count):
+        name = random.choice(names)
+        filled = [other for other in names if channels.get((other, name))]
+        last = [event[-1] for event in rows[name] if event[-2:-1] == ("x",)][-1:] or [0]
+        choice = random.randrange(8)
+        if choice < 2 and processes > 1:
+            other = random.choice([one for one in names if one != name])
+            channels.setdefault((name, other), []).append(random.randrange(2))
+            rows[name].append(("send", other, channels[name, other][-1]))
+        elif choice < 4 and filled:
+            sender = random.choice(filled)
+            rows[name].append(("take", sender, random.choice("xy"), channels[sender, name].pop(0)))
+        else:
+            rows[name].append(("set", "x", 1 - last[0]))
+    return [(name, tuple(events)) for name, events in rows.items()]
+
+
+def busy_rules(random, rows):
+    """Conditions of the kind lock or either about x, which exclude a lot, and some others."""
+    names = [name for name, events in rows]
+    if random.randrange(2):
+        rules = [("hold", name, ("=", X, number(random.choice((0, 1, 1, 1))))) for name in names]
+        rules += [("write", name, random.choice((ALWAYS, ALWAYS, ("=", Y, number(1))))) for name in names if random.randrange(2)]
+    else:
+        rules = [("either", name, ("=", X, number(random.choice((0, 0, 1))))) for name in names]
+    rules += some_orders(random, rows, random.choice((0, 0, 1))) + some_bounds(random, names, random.choice((0, 0, 0, 1)))
+    random.shuffle(rules)
+    return rules
+
+
 def some_node(random):
     return random.choice(NODES * 3 + (ALWAYS, NEVER, FAILING))
 

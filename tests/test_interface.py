@@ -8,7 +8,7 @@ import unittest
 
 FOLDER = pathlib.Path(__file__).resolve().parent.parent / "rerunrein"
 
-# What has been built so far: for each file its functions, and its classes with their methods.
+# For each file its functions, and its classes with their methods.
 FUNCTIONS = {
     "expressions": {
         "parse_expression": "(text)", "parse_condition": "(text)", "written": "(node)",
@@ -31,6 +31,12 @@ FUNCTIONS = {
         "recovery_line": "(record, cut, failed)", "useless_checkpoints": "(record)", "zigzag": "(record, event)",
         "is_zigzag": "(record, event, thing)",
     },
+    "steering": {
+        "required": "(conditions)", "steer": "(conditions)", "bad_cut": "(conditions, waits)",
+        "good_replay": "(conditions)", "is_steering": "(conditions, thing)", "is_evidence": "(conditions, thing)",
+    },
+    "replays": {"replay": "(record, waits, choices)"},
+    "scripts": {"steered_lines": "(record, waits=())"},
     "errors": {},
 }
 CLASSES = {
@@ -61,6 +67,13 @@ CLASSES = {
             "gaps": "(self, name)", "broken": "(self, cut)",
         },
     },
+    "replays": {
+        "Replay": {
+            "__init__": "(self, record, waits=())", "reached": "(self)", "ready": "(self)", "step": "(self, name)",
+            "copy": "(self)",
+        },
+    },
+    "console": {"Console": {"__init__": "(self)", "tell": "(self, line)"}},
     "errors": {
         "RerunError": {},
         "BadText": {"__init__": "(self, position)"},

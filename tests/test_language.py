@@ -179,7 +179,8 @@ class LanguageTest(unittest.TestCase):
     def test_raised_and_caught_errors(self):
         own = [node.name for name, node in nodes(ast.ClassDef) if name == "errors"]
         for name, node in nodes(ast.ExceptHandler):
-            self.assertIn(node.type.id, own + ["KeyError"])
+            for kind in node.type.elts if isinstance(node.type, ast.Tuple) else [node.type]:
+                self.assertIn(kind.id, own + ["KeyError"])
         for name, node in nodes(ast.Raise):
             if node.exc is not None:
                 self.assertIn(node.exc.func.id, own)
