@@ -295,6 +295,15 @@ class IsZigzagTest(unittest.TestCase):
             with self.subTest(thing):
                 self.assertIs(is_zigzag(ZIGZAG, ("p", 2), thing), False)
 
+    def test_a_receive_in_the_place_of_a_send(self):
+        record = read_record([
+            "process p", "send q 9", "receive x 1 from q", "checkpoint", "send q 2",
+            "process q", "send p 1", "receive y 9 from p", "take y 2 from p",
+        ])
+        self.assertIs(is_zigzag(record, ("p", 3), (("p", 4), ("q", 1))), True)
+        for number in (2, 3):
+            self.assertIs(is_zigzag(record, ("p", 3), (("p", 4), ("q", number))), False)
+
     def test_any_objects(self):
         for thing in (*OTHER_THINGS, None, 5, "pq", ((),), [[]], True, nested(50000), (nested(50000), ("q", 1)), ("p", nested(9))):
             self.assertIs(is_zigzag(ZIGZAG, ("p", 2), thing), False)

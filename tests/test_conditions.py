@@ -84,7 +84,8 @@ class LinesTest(unittest.TestCase):
             "hold a x", "hold a x = ", "hold a (x = 1)", "hold a x = 1 = 1", "hold x = 1", " hold a x = 1", "hold  a x = 1",
             "hold A x = 1", "hold a1 x = 1", "hold a x = 01", "hold a x == 1", "hold a x = 1 and", "hold a = 1", "hold abcdefghi x = 1",
             "write a set = 1", "either a x + 1", "either a x = " + "1" * 31, "Either a x = 1", "hold\ta x = 1", "hold a\nx = 1",
-            "process a", "set x 1", "or a x = 1",
+            "process a", "set x 1", "or a x = 1", "hold a b 1", "either a b 1", "x a b 1", "order a b 1", "bound a 1 b 1", "hold a 1 b 1",
+            "either a 1 b 1", "x a 1 b 1", "a b 1", "a 1 b 1",
         ):
             with self.subTest(line):
                 self.assert_bad([line], 0, "line")

@@ -199,6 +199,24 @@ class ExamplesTest(unittest.TestCase):
         conditions = Conditions(record, lines + ["order r 1 s 3"])
         self.assertEqual(steer(conditions), ("never", ("sections", (("w", 1, 3), ("r", 1, 2), ("s", 1, 2)))))
 
+    def test_a_writer_beside_readers_that_are_together(self):
+        # The sections of a and c overlap in every replay; those of b come ahead of both or behind both.
+        meet = ["set x 1", "send {0} 1", "receive y 1 from {0}", "set x 0"]
+        alone = ["set x 1", "set x 0", "set x 1", "set x 0"]
+        for order in itertools.permutations("abc"):
+            bodies = {"a": [line.format("c") for line in meet], "b": alone, "c": [line.format("a") for line in meet]}
+            record = read_record([line for name in order for line in ["process " + name, *bodies[name]]])
+            conditions = Conditions(record, [f"hold {name} x = 1" for name in "abc"] + ["write b x = 1"])
+            result = steer(conditions)
+            self.assertEqual(result[0], "waits")
+            self.assertIs(is_steering(conditions, result), True)
+            look = Look([(name, record.events(name)) for name in order], [
+                *[("hold", name, ("=", ("variable", "x"), ("number", 1))) for name in "abc"],
+                ("write", "b", ("=", ("variable", "x"), ("number", 1))),
+            ])
+            self.assertTrue(look.is_steering(result[1], result[2]))
+            self.assertTrue(look.is_good_replay(good_replay(conditions)))
+
     def test_keywords(self):
         conditions = Conditions(EXAMPLE, LOCK)
         self.assertEqual(steer(conditions=conditions), steer(conditions))
